@@ -38,7 +38,8 @@ func (a *answer) done() *answer {
 	s, c, q := a.broker.store, a.broker.coord, a.q
 	switch q.Kind {
 	case wire.Create:
-		return a.placed(s.Create(q.Name, q.Count)).forgotten()
+		was := s.There(q.Name, 0)
+		return a.placed(s.Create(q.Name, q.Count)).renewed(was)
 	case wire.Delete:
 		return a.placed(s.Delete(q.Name)).forgotten()
 	case wire.Describe:
@@ -112,9 +113,17 @@ func (a *answer) known(at int, ok bool) *answer {
 	return a.placed(at, api.OK)
 }
 
-// forgotten lets go how far groups have read of a topic that has gone, or that is new.
+// forgotten lets go how far groups have read of a topic that has gone.
 func (a *answer) forgotten() *answer {
 	if a.Error == api.OK {
+		a.broker.coord.Drop(a.q.Name)
+	}
+	return a
+}
+
+// renewed lets go what is left of an earlier topic, whose Delete was ended by an error; also where the new one is there, though the disk went down behind that.
+func (a *answer) renewed(was bool) *answer {
+	if !was && a.broker.store.There(a.q.Name, 0) {
 		a.broker.coord.Drop(a.q.Name)
 	}
 	return a

@@ -150,6 +150,35 @@ func TestDeletedInPart(t *testing.T) {
 	replies(t, "P22.2: Produce", b, producing(by(4, 0, small(1)), false), wire.Reply{})
 }
 
+// TestCreatedAgainDown: so it is where the new one's Create is ended too.
+func TestCreatedAgainDown(t *testing.T) {
+	for fuse := range 5 {
+		b, d := filled(t)
+		d.Fuse(4)
+		refuses(t, "P22.3: Delete", b, deleting("t"), api.ErrDown)
+		replies(t, "P22.3: Committed of what is gone in part", b, committed, wire.Reply{At: 3})
+		d.Fuse(fuse)
+		r := b.Do(creating("t", 1), 5)
+		if want := []api.Errno{api.ErrDown, api.OK}[fuse/4]; r.Error != want {
+			t.Errorf("P22.3: Create with a fuse of %d: %d, want %d", fuse, r.Error, want)
+		}
+		there := b.End("t", 0) >= 0
+		if there != (fuse >= 3) {
+			t.Errorf("P22.3: Create with a fuse of %d: there %t", fuse, there)
+		}
+		want := 3
+		if there {
+			want = -1
+		}
+		replies(t, fmt.Sprint("P22.3: Committed, when Create had a fuse of ", fuse), b, committed, wire.Reply{At: want})
+	}
+	// A Create that is refused lets nothing go.
+	b, _ := filled(t)
+	refuses(t, "P22.2: Create", b, creating("t", 1), api.ErrThere)
+	refuses(t, "P22.2: Create", b, creating("t", 0), api.ErrArg)
+	replies(t, "P22.2: Committed", b, committed, wire.Reply{At: 3})
+}
+
 // TestCreatedDown: what the last change that the disk let go has created is there, but all that asks its log tells that the disk is down.
 func TestCreatedDown(t *testing.T) {
 	d := newDisk(t, 1000)
